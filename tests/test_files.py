@@ -1,0 +1,64 @@
+"""The rules for the files of the package that can be seen from their text alone."""
+
+import ast
+import pathlib
+import unittest
+
+PACKAGE = pathlib.Path(__file__).resolve().parent.parent / "waysthatcross"
+LIBRARY = ("heapq", "math", "itertools", "collections")
+
+
+def sources():
+    """Return the names, texts and trees of the package's files."""
+    texts = [(file.name, file.read_text(encoding="utf-8")) for file in sorted(PACKAGE.glob("*.py"))]
+    return [(name, text, ast.parse(text)) for name, text in texts]
+
+
+def imported_from(tree):
+    return [node.module for node in ast.walk(tree) if isinstance(node, ast.ImportFrom)]
+
+
+class Files(unittest.TestCase):
+
+    def test_the_folder_contains_python_files_alone(self):
+        for file in PACKAGE.iterdir():
+            if file.name != "__pycache__":
+                self.assertRegex(file.name, r"^[a-z_][a-z0-9_]*\.py$")
+        self.assertIn("__init__.py", [name for name, _, _ in sources()])
+
+    def test_characters_and_lengths(self):
+        for name, text, _ in sources():
+            lines = text.split("\n")
+            self.assertLessEqual(len(lines) - 1, 399, name)
+            self.assertLessEqual(max(len(line) for line in lines), 120, name)
+            self.assertEqual([sign for sign in text if sign != "\n" and not " " <= sign <= "~"], [], name)
+
+    def test_functions_are_short(self):
+        for name, _, tree in sources():
+            for node in ast.walk(tree):
+                if isinstance(node, ast.FunctionDef):
+                    self.assertLessEqual(node.end_lineno - node.lineno + 1, 40, (name, node.name))
+
+    def test_imports_name_the_very_file(self):
+        trees = {"waysthatcross." + name[:-3]: tree for name, _, tree in sources()}
+        for name, _, tree in sources():
+            self.assertEqual([node for node in ast.walk(tree) if isinstance(node, ast.Import)], [], name)
+            for node in [node for node in ast.walk(tree) if isinstance(node, ast.ImportFrom)]:
+                self.assertEqual(node.level, 0, name)
+                if node.module not in LIBRARY:
+                    told = {part.name for part in trees[node.module].body if hasattr(part, "name")}
+                    told |= {target.id for part in trees[node.module].body if isinstance(part, ast.Assign)
+                             for target in part.targets}
+                    self.assertLessEqual({alias.name for alias in node.names}, told, name)
+
+    def test_no_two_files_import_from_each_other(self):
+        rest = {"waysthatcross." + name[:-3]: imported_from(tree) for name, _, tree in sources()}
+        self.assertEqual(rest["waysthatcross.__init__"], [])
+        while rest:
+            free = [name for name in rest if not [part for part in rest[name] if part in rest]]
+            self.assertNotEqual(free, [], rest)
+            rest = {name: rest[name] for name in rest if name not in free}
+
+
+if __name__ == "__main__":
+    unittest.main()

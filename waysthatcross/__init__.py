@@ -1,0 +1,1 @@
+"""Ways over gates, each in an order of its own."""

@@ -1,0 +1,56 @@
+"""Books of ways over gates."""
+
+from waysthatcross.errors import BadBook, BadGate, BadGates, BadWays
+from waysthatcross.kinds import is_below, is_list, is_number, is_row_below
+
+
+class Book:
+    """Some gates, and unlike ways through them, each a row of gates in an order of its own."""
+
+    def __init__(self, gates, ways):
+        if not is_number(gates):
+            raise BadGates(gates)
+        wrong = _first_wrong_way(gates, ways)
+        if wrong is not None:
+            raise BadWays(wrong)
+        self._gates = gates
+        # Tuples, so that no later change of the caller's lists reaches the book.
+        self._ways = tuple([tuple(row) for row in ways])
+
+    def gates(self):
+        """Return how many gates there are."""
+        return self._gates
+
+    def ways(self):
+        """Return the rows of the ways as new lists."""
+        return [list(row) for row in self._ways]
+
+    def __eq__(self, other):
+        return isinstance(other, Book) and self._gates == other._gates and self._ways == other._ways
+
+
+def _first_wrong_way(gates, ways):
+    """Return the index of the first thing that is no row or stood before, 0 for no list, None if all are right."""
+    if not is_list(ways):
+        return 0
+    seen = set()
+    for index, thing in enumerate(ways):
+        if not is_row_below(thing, gates) or len(thing) == 0:
+            return index
+        row = tuple(thing)
+        if row in seen:
+            return index
+        seen.add(row)
+    return None
+
+
+def ask_book(thing):
+    """Raise BadBook for a thing that is no Book."""
+    if not isinstance(thing, Book):
+        raise BadBook(thing)
+
+
+def ask_gate(book, gate):
+    """Raise BadGate for what is no gate of the book."""
+    if not is_below(gate, book.gates()):
+        raise BadGate(gate)
