@@ -39,6 +39,18 @@ class Files(unittest.TestCase):
                 if isinstance(node, ast.FunctionDef):
                     self.assertLessEqual(node.end_lineno - node.lineno + 1, 40, (name, node.name))
 
+    def test_lists_where_generator_expressions_could_stand(self):
+        # Book has an __eq__, so any, all, min, max, sum and sorted take lists.
+        for name, _, tree in sources():
+            self.assertEqual([node.lineno for node in ast.walk(tree) if isinstance(node, ast.GeneratorExp)], [], name)
+
+    def test_no_local_name_is_that_of_an_import(self):
+        for name, _, tree in sources():
+            imported = {alias.name for node in tree.body if isinstance(node, ast.ImportFrom) for alias in node.names}
+            stored = [node for node in ast.walk(tree) if isinstance(node, ast.Name) and isinstance(node.ctx, ast.Store)]
+            told = {node.id for node in stored} | {node.arg for node in ast.walk(tree) if isinstance(node, ast.arg)}
+            self.assertEqual(sorted(imported & told), [], name)
+
     def test_imports_name_the_very_file(self):
         trees = {"waysthatcross." + name[:-3]: tree for name, _, tree in sources()}
         for name, _, tree in sources():

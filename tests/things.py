@@ -54,26 +54,72 @@ def small_books(gates, most_ways):
     return books
 
 
+def crossing_lot(rows, one, gate, other):
+    """Return the lot of a crossing as a set, by counting along the rows."""
+    lot = set()
+    for part in rows[one]:
+        lot.add(part)
+        if part == gate:
+            break
+    reached = False
+    for part in rows[other]:
+        reached = reached or part == gate
+        if reached:
+            lot.add(part)
+    return lot
+
+
+def first_lack(rows):
+    """Return the first triple, ascending, of a crossing that no row lies within, by going through all triples."""
+    gates = max([gate for row in rows for gate in row], default=-1) + 1
+    for one in range(len(rows)):
+        for gate in range(gates):
+            for other in range(len(rows)):
+                if one != other and gate in rows[one] and gate in rows[other]:
+                    lot = crossing_lot(rows, one, gate, other)
+                    if not any(lot.issuperset(row) for row in rows):
+                        return (one, gate, other)
+    return None
+
+
 def is_closed(book):
     """Return whether some way lies within each crossing."""
-    ways = book.ways()
-    for one in ways:
-        for other in ways:
-            for gate in one:
-                if one is not other and gate in other:
-                    lot = one[:one.index(gate) + 1] + other[other.index(gate):]
-                    if not any(set(way) <= set(lot) for way in ways):
-                        return False
-    return True
+    return first_lack(book.ways()) is None
+
+
+def lots(book):
+    """Return all lots of the book's gates, ascending each."""
+    return [list(lot) for many in range(book.gates() + 1) for lot in combinations(range(book.gates()), many)]
 
 
 def cuts(book):
     """Return the lots that every way meets, as sets."""
-    gates = range(book.gates())
-    lots = [set(lot) for many in range(book.gates() + 1) for lot in combinations(gates, many)]
-    return [lot for lot in lots if all(lot & set(way) for way in book.ways())]
+    return [set(lot) for lot in lots(book) if all(set(lot) & set(way) for way in book.ways())]
 
 
 def least_room(book, rooms):
     """Return the least room of a cut; in a closed book the most is just as much. None if there is no cut."""
     return min([sum(rooms[gate] for gate in lot) for lot in cuts(book)], default=None)
+
+
+def greatest_sum(ways, rooms):
+    """Return the greatest sum of a plan that fits, by going through all of them."""
+    if not ways:
+        return 0
+    sums = []
+    for many in range(min(rooms[gate] for gate in ways[0]) + 1):
+        left = [room - many if gate in ways[0] else room for gate, room in enumerate(rooms)]
+        sums.append(many + greatest_sum(ways[1:], left))
+    return max(sums)
+
+
+def exactly(thing):
+    """Return what tells a thing apart from all things of other kinds, within lists and tuples, too."""
+    if type(thing) in (list, tuple):
+        return (type(thing), [exactly(part) for part in thing])
+    return (type(thing), thing)
+
+
+def as_tuples(thing):
+    """Return the thing with a tuple in each list's place."""
+    return tuple([as_tuples(part) for part in thing]) if type(thing) in (list, tuple) else thing

@@ -1,7 +1,7 @@
 """Books of ways over gates."""
 
-from waysthatcross.errors import BadBook, BadGate, BadGates, BadWays
-from waysthatcross.kinds import is_below, is_list, is_number, is_row_below
+from waysthatcross.errors import BadGates, BadWays
+from waysthatcross.kinds import is_list, is_number, is_row_below
 
 
 class Book:
@@ -42,15 +42,3 @@ def _first_wrong_way(gates, ways):
             return index
         seen.add(row)
     return None
-
-
-def ask_book(thing):
-    """Raise BadBook for a thing that is no Book."""
-    if not isinstance(thing, Book):
-        raise BadBook(thing)
-
-
-def ask_gate(book, gate):
-    """Raise BadGate for what is no gate of the book."""
-    if not is_below(gate, book.gates()):
-        raise BadGate(gate)

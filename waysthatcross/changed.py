@@ -1,6 +1,7 @@
 """Books made of one book or of two."""
 
-from waysthatcross.books import Book, ask_book, ask_gate
+from waysthatcross.asked import ask_book, ask_gate
+from waysthatcross.books import Book
 from waysthatcross.errors import Alone
 
 

@@ -25,3 +25,13 @@ def is_row_below(thing, end):
     """Return whether the thing is a list, perhaps empty, of unlike numbers below the end."""
     # Only behind the first test are all the things in it such as a set may have.
     return is_list(thing) and all([is_below(part, end) for part in thing]) and len(set(thing)) == len(thing)
+
+
+def is_integers(thing, many):
+    """Return whether the thing is a list of just so many integers."""
+    return is_list(thing) and len(thing) == many and all([is_integer(part) for part in thing])
+
+
+def is_numbers(thing, many):
+    """Return whether the thing is a list of just so many numbers."""
+    return is_list(thing) and len(thing) == many and all([is_number(part) for part in thing])

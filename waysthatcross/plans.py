@@ -1,0 +1,96 @@
+"""Plans: how many go each way, and the most that can."""
+
+from waysthatcross.asked import ask_book, ask_gate, ask_many, ask_plan, ask_rooms
+from waysthatcross.crossings import ask_closed
+from waysthatcross.cuts import small_cuts
+from waysthatcross.kinds import is_numbers
+from waysthatcross.lots import least_room_in, room_in
+
+
+def loads(book, plan):
+    """Return the list, by gates, of how many go through."""
+    ask_book(book)
+    ask_plan(book, plan)
+    sums = [0] * book.gates()
+    for row, many in zip(book.ways(), plan):
+        for gate in row:
+            sums[gate] += many
+    return sums
+
+
+def plan_fault(book, rooms, thing):
+    """Return None for a plan that fits, ("form",) for no plan, else ("gate", gate) with the first gate too full."""
+    ask_book(book)
+    ask_rooms(book, rooms)
+    if not is_numbers(thing, len(book.ways())):
+        return ("form",)
+    for gate, many in enumerate(loads(book, thing)):
+        if many > rooms[gate]:
+            return ("gate", gate)
+    return None
+
+
+def most(book, rooms):
+    """Return the greatest sum of a plan of a closed book that fits, which is the least room of a cut."""
+    ask_book(book)
+    ask_rooms(book, rooms)
+    ask_closed(book)
+    return least_room_in(rooms, small_cuts(book))
+
+
+def plan_of(book, rooms, many):
+    """Return a plan of a closed book that fits with just so many in all, None if there is none."""
+    ask_book(book)
+    ask_rooms(book, rooms)
+    ask_many(many)
+    ask_closed(book)
+    plan = _best_plan(book, rooms)
+    if many > sum(plan):
+        return None
+    return _lessened(plan, many)
+
+
+def _best_plan(book, rooms):
+    """Return a plan of a closed book with the most, found way by way."""
+    cuts = small_cuts(book)
+    left = list(rooms)
+    plan = []
+    for row in book.ways():
+        times = _times_taken(row, left, cuts)
+        for gate in row:
+            left[gate] -= times
+        plan.append(times)
+    return plan
+
+
+def _times_taken(row, left, cuts):
+    """Return how often a way can be taken so that the least room of a cut falls by just as much."""
+    least = least_room_in(left, cuts)
+    bounds = [left[gate] for gate in row]
+    for cut in cuts:
+        shared = len([gate for gate in row if gate in cut])
+        # A cut with one gate of the way falls just as fast as is wanted; one with more must not fall below that.
+        if shared > 1:
+            bounds.append((room_in(left, cut) - least) // (shared - 1))
+    return min(bounds)
+
+
+def _lessened(plan, many):
+    """Return a plan with just so many in all, none more on any way than in this one, which has no fewer."""
+    kept = []
+    for times in plan:
+        taken = min(times, many - sum(kept))
+        kept.append(taken)
+    return kept
+
+
+def by_room(book, rooms, gate):
+    """Return the pair of the most of a closed book with no room at the gate and the least room of a cut without it."""
+    ask_book(book)
+    ask_rooms(book, rooms)
+    ask_gate(book, gate)
+    ask_closed(book)
+    cuts = small_cuts(book)
+    shut = list(rooms)
+    shut[gate] = 0
+    return (least_room_in(shut, cuts), least_room_in(rooms, [cut for cut in cuts if gate not in cut]))
