@@ -216,6 +216,15 @@ class CutBelow(unittest.TestCase):
         self.assertIsNone(cut_below(k_book(), [1] * 9, 0))
         self.assertEqual(len(cut_below(k_book(), [1] * 9, 4)), 3)
 
+    def test_the_first_small_cut_each_time(self):
+        draw = random.Random(12)
+        for book in books(closed_book, 100, 12) + [k_book()]:
+            rooms = drawn_rooms(draw, book, 5)
+            for many in range(1, least_room(book, rooms) + 4):
+                told = [lot for lot in plain_small_cuts(book) if sum(rooms[gate] for gate in lot) < many]
+                for _ in range(2):
+                    self.assertEqual(cut_below(book, rooms, many), told[0] if told else None)
+
     def test_a_told_cut_may_be_told_again(self):
         told = cut_below(k_book(), [1] * 9, 4)
         self.assertIs(is_cut(k_book(), told), True)

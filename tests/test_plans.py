@@ -56,6 +56,20 @@ def plan_without_rounding(book, rooms):
     return plan
 
 
+def plan_way_by_way(book, rooms):
+    """Return the plan that [4.5] finds, the ways in their order."""
+    left, plan = list(rooms), []
+    told = cuts(book)
+    for row in book.ways():
+        sums = [sum(left[gate] for gate in lot) for lot in told]
+        bounds = [(room - min(sums)) // (len(lot & set(row)) - 1) for lot, room in zip(told, sums)
+                  if len(lot & set(row)) > 1]
+        plan.append(min([left[gate] for gate in row] + bounds))
+        for gate in row:
+            left[gate] -= plan[-1]
+    return plan
+
+
 def small_closed_books(many, start):
     """Return so many closed books of few ways, and all of two gates."""
     told = books(closed_book, many, start, True)
@@ -284,6 +298,19 @@ class PlanOf(unittest.TestCase):
             through = loads(book, plan_of(book, rooms, most(book, rooms)))
             left = [room - many for room, many in zip(rooms, through)]
             self.assertEqual(most(book, left), 0)
+
+    def test_the_same_one_each_time_as_it_is_found_way_by_way(self):
+        draw = random.Random(14)
+        grid = Book(9, [[one, gate, other] for one in (0, 1, 2) for gate in (3, 4, 5) for other in (6, 7, 8)])
+        for book in books(closed_book, 200, 14) + [k_book(), LEAPS, grid]:
+            for top in (1, 5, 10 ** 13):
+                rooms = drawn_rooms(draw, book, top)
+                plan = plan_way_by_way(book, rooms)
+                self.assertEqual(plan_of(book, rooms, sum(plan)), plan)
+                many = draw.randint(0, sum(plan))
+                for times, fewer in zip(plan, plan_of(book, rooms, many)):
+                    self.assertEqual(fewer, min(times, many))
+                    many -= fewer
 
     def test_none_go_where_there_is_no_way(self):
         for gates in range(3):

@@ -16,6 +16,7 @@ class Book:
         self._gates = gates
         # Tuples, so that no later change of the caller's lists reaches the book.
         self._ways = tuple([tuple(row) for row in ways])
+        self._found = {}
 
     def gates(self):
         """Return how many gates there are."""
@@ -24,6 +25,19 @@ class Book:
     def ways(self):
         """Return the rows of the ways as new lists."""
         return [list(row) for row in self._ways]
+
+    def rows(self):
+        """Return the rows of the ways as tuples, which need no copies."""
+        return self._ways
+
+    def found(self, name):
+        """Return what was kept under a name, None if nothing was."""
+        return self._found.get(name)
+
+    def keep(self, name, answer):
+        """Keep, and return, what follows from the gates and ways alone: many questions to one book need the same."""
+        self._found[name] = answer
+        return answer
 
     def __eq__(self, other):
         return isinstance(other, Book) and self._gates == other._gates and self._ways == other._ways

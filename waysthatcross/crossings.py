@@ -3,35 +3,81 @@
 from waysthatcross.asked import ask_book, ask_lot
 from waysthatcross.errors import BadGate, BadWay, NotClosed
 from waysthatcross.kinds import is_below
-from waysthatcross.lots import bits_of, has_all
+from waysthatcross.lots import has_all, has_one_of, ways_as_bits
 
 
 def lack(book):
     """Return the first triple (one, gate, other) of a crossing that no way lies within, None if there is none."""
     ask_book(book)
-    rows = book.ways()
-    ways = [bits_of(row) for row in rows]
-    seen = set()
-    for triple, lot in crossing_lots(rows).items():
-        # Many crossings have the same lot; each lot is looked through once.
-        if lot not in seen:
-            if not any([has_all(lot, way) for way in ways]):
-                return triple
-            seen.add(lot)
-    return None
+    kept = book.found("lack")
+    if kept is None:
+        # In a tuple, so that None may be kept, too.
+        kept = book.keep("lack", (_first_lack(book.rows(), ways_as_bits(book)),))
+    return kept[0]
 
 
-def crossing_lots(rows):
-    """Return the bits of the lots of all crossings, by their triples (one, gate, other), which are ascending."""
+def _first_lack(rows, ways):
+    heads = _firsts_with_bits(rows)
+    tails = _firsts_with_bits([row[::-1] for row in rows])
+    # A way lies within its own gates; each other lot, which many crossings may have, is looked through once.
+    known = {way: True for way in ways}
+    triples = []
+    for gate, ahead in heads.items():
+        for head, one in ahead.items():
+            for tail, other in tails[gate].items():
+                lot = head | tail
+                if lot not in known:
+                    known[lot] = has_one_of(lot, ways)
+                # Where one and other are the same way, it lies within: no such triple is told.
+                if not known[lot]:
+                    triples.append((one, gate, other))
+    return min(triples, default=None)
+
+
+def _firsts_with_bits(rows):
+    """Return, by gates, of each lot of the gates up to it on some row its bits and the first row with it."""
+    firsts = {}
+    for number, row in enumerate(rows):
+        bits = 0
+        for gate in row:
+            bits = bits | (1 << gate)
+            firsts.setdefault(gate, {}).setdefault(bits, number)
+    return firsts
+
+
+def ask_closed(book):
+    """Raise NotClosed for a book that is not closed."""
+    triple = lack(book)
+    if triple is not None:
+        one, gate, other = triple
+        raise NotClosed(one, gate, other)
+
+
+def meetings(book):
+    """Return, of a book, where two ways have a gate in common, and what lies within the crossings there.
+
+    The former are ascending (one, gate, other, there, back), one less than other: the gate and the numbers of the lots
+    of both crossings. The latter are, by these numbers, the ways within.
+    """
+    kept = book.found("meetings")
+    if kept is None:
+        kept = book.keep("meetings", _meetings_of(book.rows(), ways_as_bits(book)))
+    return kept
+
+
+def _meetings_of(rows, ways):
     heads = [_bits_up_to_each(row) for row in rows]
     tails = [_bits_up_to_each(row[::-1]) for row in rows]
-    lots = {}
+    numbers = {}
+    told = []
     for one, row in enumerate(rows):
         for gate in sorted(row):
-            for other, tail in enumerate(tails):
-                if other != one and gate in tail:
-                    lots[(one, gate, other)] = heads[one][gate] | tail[gate]
-    return lots
+            for other in range(one + 1, len(rows)):
+                if gate in tails[other]:
+                    there = numbers.setdefault(heads[one][gate] | tails[other][gate], len(numbers))
+                    back = numbers.setdefault(heads[other][gate] | tails[one][gate], len(numbers))
+                    told.append((one, gate, other, there, back))
+    return (told, [[way for way, bits in enumerate(ways) if has_all(lot, bits)] for lot in numbers])
 
 
 def _bits_up_to_each(row):
@@ -44,14 +90,6 @@ def _bits_up_to_each(row):
     return found
 
 
-def ask_closed(book):
-    """Raise NotClosed for a book that is not closed."""
-    triple = lack(book)
-    if triple is not None:
-        one, gate, other = triple
-        raise NotClosed(one, gate, other)
-
-
 def crossing(book, one, gate, other):
     """Return the ascending lot of the gates of one up to gate and those of other from gate on."""
     ahead, rest = _parts_of_crossing(book, one, gate, other)
@@ -61,7 +99,7 @@ def crossing(book, one, gate, other):
 def _parts_of_crossing(book, one, gate, other):
     """Return the gates of one up to gate, with it, and those of other from gate on."""
     ask_book(book)
-    rows = book.ways()
+    rows = book.rows()
     if not is_below(one, len(rows)):
         raise BadWay(one)
     if not is_below(other, len(rows)) or other == one:
@@ -76,13 +114,13 @@ def within(book, lot):
     """Return the ascending list of the ways that have no gate outside the lot."""
     ask_book(book)
     ask_lot(book, lot)
-    return [way for way, row in enumerate(book.ways()) if all([gate in lot for gate in row])]
+    return [way for way, row in enumerate(book.rows()) if all([gate in lot for gate in row])]
 
 
 def along(book, one, gate, other):
     """Return the ascending list of the ways that go along a crossing."""
     ahead, rest = _parts_of_crossing(book, one, gate, other)
-    return [way for way, row in enumerate(book.ways()) if _goes_along(row, ahead, rest)]
+    return [way for way, row in enumerate(book.rows()) if _goes_along(row, ahead, rest)]
 
 
 def _goes_along(row, ahead, rest):
@@ -95,4 +133,4 @@ def _goes_along(row, ahead, rest):
 
 def _is_some_of(part, row):
     """Return whether the part is some gates of the row, perhaps none, in the row's order."""
-    return [gate for gate in row if gate in part] == part
+    return [gate for gate in row if gate in part] == list(part)

@@ -1,8 +1,8 @@
 """Gains of ways, and whether crossing lessens them."""
 
 from waysthatcross.asked import ask_book, ask_gains, ask_plan
-from waysthatcross.crossings import ask_closed, crossing_lots
-from waysthatcross.lots import bits_of, has_all
+from waysthatcross.crossings import ask_closed, meetings
+from waysthatcross.errors import Loses
 
 
 def loses(book, gains):
@@ -10,26 +10,26 @@ def loses(book, gains):
     ask_book(book)
     ask_gains(book, gains)
     ask_closed(book)
-    rows = book.ways()
-    lots = crossing_lots(rows)
-    bests = _bests(rows, gains, list(lots.values()))
-    for triple, lot in lots.items():
-        one, gate, other = triple
-        if gains[one] > 0 and gains[other] > 0:
-            back = lots[(other, gate, one)]
-            if bests[lot] + bests[back] < gains[one] + gains[other]:
-                return triple
+    return first_losing(book, gains)
+
+
+def first_losing(book, gains):
+    """Return the first triple (one, gate, other) by which gains do not fit, None if they fit."""
+    told, withins = meetings(book)
+    bests = [max([0] + [gains[way] for way in within]) for within in withins]
+    # What a crossing loses, the crossing back does: one is the lesser one in the first triple.
+    for one, gate, other, there, back in told:
+        if gains[one] > 0 and gains[other] > 0 and bests[there] + bests[back] < gains[one] + gains[other]:
+            return (one, gate, other)
     return None
 
 
-def _bests(rows, gains, lots):
-    """Return the best of each lot, told by its bits: the greatest gain of a way within, or 0 if that is below."""
-    ways = [bits_of(row) for row in rows]
-    bests = {}
-    for lot in lots:
-        if lot not in bests:
-            bests[lot] = max([0] + [gains[way] for way, bits in enumerate(ways) if has_all(lot, bits)])
-    return bests
+def ask_fit(book, gains):
+    """Raise Loses for gains of a closed book that do not fit."""
+    triple = first_losing(book, gains)
+    if triple is not None:
+        one, gate, other = triple
+        raise Loses(one, gate, other)
 
 
 def gain(book, gains, plan):
