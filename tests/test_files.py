@@ -1,11 +1,17 @@
 """The rules for the files of the package that can be seen from their text alone."""
 
 import ast
+import builtins
 import pathlib
 import unittest
 
 PACKAGE = pathlib.Path(__file__).resolve().parent.parent / "waysthatcross"
 LIBRARY = ("heapq", "math", "itertools", "collections")
+BUILTINS = set("""len range enumerate zip min max sum abs sorted reversed int str bool list tuple dict set isinstance
+    repr any all divmod ValueError KeyError""".split())
+METHODS = set("""append clear copy count extend find get index insert items join keys pop remove reverse setdefault
+    split update values add discard bit_length""".split())
+BARRED = set("register mro elements open input law eval exec vars dir id type enum overload dataclass super".split())
 
 
 def sources():
@@ -43,6 +49,55 @@ class Files(unittest.TestCase):
         # Book has an __eq__, so any, all, min, max, sum and sorted take lists.
         for name, _, tree in sources():
             self.assertEqual([node.lineno for node in ast.walk(tree) if isinstance(node, ast.GeneratorExp)], [], name)
+
+    def test_builtins_and_methods(self):
+        own = {node.name for _, _, tree in sources() for node in ast.walk(tree) if isinstance(node, ast.FunctionDef)}
+        for name, _, tree in sources():
+            names = [node for node in ast.walk(tree) if isinstance(node, ast.Name)]
+            loaded = {node.id for node in names if isinstance(node.ctx, ast.Load) and hasattr(builtins, node.id)}
+            self.assertEqual(sorted(loaded - BUILTINS), [], name)
+            bound = {node.id for node in names if not isinstance(node.ctx, ast.Load)}
+            bound |= {node.arg for node in ast.walk(tree) if isinstance(node, ast.arg)}
+            bound |= {node.name for node in ast.walk(tree) if isinstance(node, (ast.FunctionDef, ast.ClassDef))}
+            bound -= {"__init__", "__eq__"}
+            self.assertEqual([word for word in sorted(bound) if hasattr(builtins, word) or word in BARRED], [], name)
+            called = {node.func.attr for node in ast.walk(tree)
+                      if isinstance(node, ast.Call) and isinstance(node.func, ast.Attribute)}
+            self.assertEqual(sorted(called - METHODS - own), [], name)
+
+    def test_kinds_of_statements_and_expressions(self):
+        barred = (ast.Try, ast.With, ast.Global, ast.Nonlocal, ast.Assert, ast.Delete, ast.Yield, ast.YieldFrom,
+                  ast.AsyncFunctionDef, ast.JoinedStr, ast.NamedExpr, ast.Match, ast.Div, ast.Pow, ast.AnnAssign)
+        for name, _, tree in sources():
+            self.assertEqual([ast.dump(node) for node in ast.walk(tree) if isinstance(node, barred)], [], name)
+            defined = [node for node in ast.walk(tree) if isinstance(node, (ast.FunctionDef, ast.ClassDef))]
+            self.assertEqual([node.name for node in defined if node.decorator_list], [], name)
+            constants = [node.value for node in ast.walk(tree) if isinstance(node, ast.Constant)]
+            self.assertEqual([value for value in constants if isinstance(value, (float, bytes))], [], name)
+            self.assertEqual([value for value in constants if isinstance(value, str) and "%" in value], [], name)
+
+    def test_what_stands_at_module_level(self):
+        allowed = (ast.FunctionDef, ast.ClassDef, ast.ImportFrom)
+        for name, _, tree in sources():
+            docstring, *rest = tree.body
+            self.assertIsInstance(docstring.value.value, str, name)
+            self.assertEqual([node.lineno for node in rest if not isinstance(node, allowed)], [], name)
+            names = [node.name for node in rest if hasattr(node, "name")]
+            names += [alias.name for node in rest if isinstance(node, ast.ImportFrom) for alias in node.names]
+            self.assertEqual(sorted(set(names)), sorted(names), name)
+
+    def test_sets_stand_where_they_are_asked_or_kept_once(self):
+        for name, _, tree in sources():
+            allowed = []
+            for node in ast.walk(tree):
+                if isinstance(node, ast.Call) and isinstance(node.func, ast.Name) and node.func.id in ("sorted", "len"):
+                    allowed += node.args if not node.keywords else []
+                if isinstance(node, ast.Assign) and isinstance(node.targets[0], ast.Name):
+                    allowed.append(node.value)
+            for node in ast.walk(tree):
+                is_call = isinstance(node, ast.Call) and isinstance(node.func, ast.Name) and node.func.id == "set"
+                if is_call or isinstance(node, (ast.Set, ast.SetComp)):
+                    self.assertIn(node, allowed, (name, node.lineno))
 
     def test_no_local_name_is_that_of_an_import(self):
         for name, _, tree in sources():

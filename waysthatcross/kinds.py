@@ -13,7 +13,7 @@ def is_integer(thing):
 
 def is_number(thing):
     """Return whether the thing is an integer from 0 on."""
-    return is_integer(thing) and thing >= 0
+    return isinstance(thing, int) and not isinstance(thing, bool) and thing >= 0
 
 
 def is_below(thing, end):
@@ -27,6 +27,11 @@ def is_row_below(thing, end):
     return is_list(thing) and all([is_below(part, end) for part in thing]) and len(set(thing)) == len(thing)
 
 
+def is_pair_below(thing, end):
+    """Return whether the thing is a list of two unlike numbers below the end."""
+    return is_row_below(thing, end) and len(thing) == 2
+
+
 def is_integers(thing, many):
     """Return whether the thing is a list of just so many integers."""
     return is_list(thing) and len(thing) == many and all([is_integer(part) for part in thing])
@@ -35,3 +40,17 @@ def is_integers(thing, many):
 def is_numbers(thing, many):
     """Return whether the thing is a list of just so many numbers."""
     return is_list(thing) and len(thing) == many and all([is_number(part) for part in thing])
+
+
+def is_pairs(thing, many):
+    """Return whether the thing is a list of just so many pairs of numbers."""
+    return is_list(thing) and len(thing) == many and all([is_numbers(part, 2) for part in thing])
+
+
+def is_sendings(thing):
+    """Return whether the thing is a list of quadruples (way, first, last, rate) such as sendings have, of any way."""
+    return is_list(thing) and all([_is_sending(part) for part in thing])
+
+
+def _is_sending(thing):
+    return is_numbers(thing, 4) and thing[2] >= thing[1] and thing[3] >= 1
