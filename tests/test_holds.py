@@ -1,15 +1,24 @@
-"""What [8.1], [8.2] say that holds, by the functions that tell of crossings, cuts and plans; [1.1], [1.2] so far."""
+"""[1.1], [1.2], and what [8.1], [8.2] say that holds, by the functions that tell of crossings, cuts and plans."""
 
 import random
 import unittest
 
 from tests.drawn import books, closed_book, drawn_rooms
+from tests.test_timed import drawn_lengths
+from tests.test_tolls import sums_gains
 from tests.things import cuts, k_book, lots, small_books
 from waysthatcross.changed import behind, beside, freed, least_ways, put_in, struck, turned
 from waysthatcross.crossings import lack
 from waysthatcross.cuts import cut_below, is_cut, room_of, small_cuts
 from waysthatcross.errors import Alone
+from waysthatcross.gains import gain, loses
+from waysthatcross.gaps import gap
+from waysthatcross.leastcuts import farthest, least_cuts, nearest
+from waysthatcross.levels import least_bell
 from waysthatcross.plans import by_room, most, plan_fault, plan_of
+from waysthatcross.through import best_sendings, best_stretches, through
+from waysthatcross.timed import gets_by, sent, sent_fault
+from waysthatcross.tolls import best_tolls, cost, dearest, dearest_plan, toll_fault
 
 
 def closed_books(many, start):
@@ -140,6 +149,56 @@ class ThePromise(unittest.TestCase):
                 else:
                     self.assertIs(is_cut(book, cut), True)
                     self.assertLess(room_of(book, rooms, cut), many)
+
+    def test_a_dearest_plan_and_tolls_that_come_to_just_as_much(self):
+        draw = random.Random(11)
+        for book in closed_books(60, 11):
+            rooms = drawn_rooms(draw, book, draw.choice([1, 4, 10 ** 13]))
+            for gains in ([1] * len(book.ways()), sums_gains(draw, book, draw.choice([2, 10 ** 11]))):
+                self.assertIsNone(loses(book, gains))
+                plan, tolls = dearest_plan(book, rooms, gains), best_tolls(book, rooms, gains)
+                self.assertIsNone(plan_fault(book, rooms, plan))
+                self.assertIsNone(toll_fault(book, gains, tolls))
+                self.assertEqual(gain(book, gains, plan), cost(book, rooms, tolls))
+                self.assertEqual(dearest(book, rooms, gains), cost(book, rooms, tolls))
+
+    def test_with_all_gains_1_these_are_plans_and_cuts(self):
+        draw = random.Random(12)
+        for book in closed_books(60, 12):
+            rooms = [draw.randint(1, 5) for _ in range(book.gates())]
+            gains = [1] * len(book.ways())
+            self.assertEqual(dearest(book, rooms, gains), most(book, rooms))
+            tolls = best_tolls(book, rooms, gains)
+            self.assertIn([gate for gate, toll in enumerate(tolls) if toll > 0], least_cuts(book, rooms))
+            self.assertIn(nearest(book, rooms), least_cuts(book, rooms))
+            self.assertIn(farthest(book, rooms), least_cuts(book, rooms))
+            self.assertEqual(gap(book, rooms), 0)
+
+    def test_sendings_and_stretches_that_come_to_just_as_much(self):
+        draw = random.Random(13)
+        for book in closed_books(60, 13):
+            rooms = drawn_rooms(draw, book, draw.choice([1, 4, 10 ** 13]))
+            for top in (4, 10 ** 9):
+                lengths = drawn_lengths(draw, book, top)
+                bell = draw.randint(0, 2 * sum(lengths) + 3)
+                sendings = best_sendings(book, rooms, lengths, bell)
+                stretches = best_stretches(book, rooms, lengths, bell)
+                self.assertIsNone(sent_fault(book, rooms, lengths, bell, sendings))
+                self.assertIsNone(gets_by(book, lengths, bell, stretches))
+                many = through(book, rooms, lengths, bell)
+                self.assertEqual(sent(sendings), many)
+                self.assertEqual(cost(book, rooms, [turns for _, turns in stretches]), many)
+                self.assertLessEqual(least_bell(book, rooms, lengths, many), bell)
+
+    def test_behind_side_by_side_and_put_in_over_time(self):
+        draw = random.Random(14)
+        for one, first, other, last in drawn_pairs(150, 14):
+            lengths = drawn_lengths(draw, one, 3), drawn_lengths(draw, other, 3)
+            bell = draw.randint(0, 9)
+            self.assertEqual(through(beside(one, other), first + last, lengths[0] + lengths[1], bell),
+                             through(one, first, lengths[0], bell) + through(other, last, lengths[1], bell))
+            for book in (turned(one), least_ways(one)):
+                self.assertEqual(through(book, first, lengths[0], bell), through(one, first, lengths[0], bell))
 
     def test_no_web_of_roads_is_asked(self):
         # In a web of the neighbours 0 and 1, 1 and 4, 4 and 7 there would be a way 0, 1, 4, 7: K has none.
